@@ -1,0 +1,1 @@
+"""Water and batteries: which sendings between stores earn most."""

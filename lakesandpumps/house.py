@@ -1,0 +1,32 @@
+"""The interface: a list of calls on one new house, and the list of what they answer."""
+
+from lakesandpumps.asks import plan
+from lakesandpumps.calls import is_within, split_calls
+from lakesandpumps.changes import change
+from lakesandpumps.kept import House
+from lakesandpumps.refusals import NOT_OPEN, OUT_OF_RANGE
+
+PLACE_OF_OPEN = 0
+PLACE_OF_PLAN = 9
+
+
+def answer_of(house, place, numbers):
+    """What one call answers."""
+    if not is_within(place, numbers):
+        return [OUT_OF_RANGE]
+    if place != PLACE_OF_OPEN and not house.is_open:
+        return [NOT_OPEN]
+    if place == PLACE_OF_PLAN:
+        return plan(house)
+    return change(house, place, numbers)
+
+
+def answers(calls):
+    """For each call how many numbers it answers, and these."""
+    house = House()
+    told = []
+    for place, numbers in split_calls(calls):
+        answer = answer_of(house, place, numbers)
+        told.append(len(answer))
+        told.extend(answer)
+    return told

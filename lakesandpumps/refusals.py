@@ -1,0 +1,11 @@
+"""The number that a call answers first: 0 if it is accepted, else why it is refused."""
+
+ACCEPTED = 0
+OUT_OF_RANGE = -1
+NOT_OPEN = -2
+OPEN_ALREADY = -3
+FULL = -4
+NO_STORE = -5
+NO_LINK = -6
+NOT_FITTING = -7
+NOT_LOOKED_AT = -8
