@@ -5,7 +5,8 @@ Each takes numbers that are within their ranges, and answers a list: a refusal a
 
 from lakesandpumps.kept import Link, Store
 from lakesandpumps.refusals import ACCEPTED, FULL, NO_LINK, NO_STORE, NOT_FITTING, NOT_LOOKED_AT, OPEN_ALREADY
-from lakesandpumps.schedules import levels_behind, sendings_earn
+from lakesandpumps.refusals import missing
+from lakesandpumps.schedules import levels_behind, levels_fit, sendings_earn, sendings_fit
 
 MOST_STORES = 4
 MOST_LINKS = 6
@@ -43,15 +44,6 @@ def new_link(house, numbers):
         return [FULL]
     house.links.append(Link(source, goal, delay, house.periods))
     return [ACCEPTED, len(house.links)]
-
-
-def missing(house, parts, numbers, no_part):
-    """Why nothing can be set for the part and the period that the numbers begin with; 0 if it can."""
-    if numbers[0] > len(parts):
-        return no_part
-    if numbers[1] > house.periods:
-        return NOT_LOOKED_AT
-    return ACCEPTED
 
 
 def set_inflow(house, numbers):
@@ -105,11 +97,7 @@ def may_be_sent(house, sent):
     """Whether the links may send this in period 1; the ends are not asked here."""
     if len(sent) != len(house.links):
         return False
-    for link, amount in zip(house.links, sent):
-        if amount < link.leasts[0] or amount > link.rooms[0]:
-            return False
-    levels = levels_behind(house, sent, 1)[1]
-    return all([0 <= level <= store.cap for store, level in zip(house.stores, levels)])
+    return sendings_fit(house, sent, 0) and levels_fit(house, levels_behind(house, sent, 1)[1])
 
 
 def bring_later(house, sent):

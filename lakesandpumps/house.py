@@ -1,13 +1,12 @@
 """The interface: a list of calls on one new house, and the list of what they answer."""
 
-from lakesandpumps.asks import plan
+from lakesandpumps.asks import FIRST_ASK, ask
 from lakesandpumps.calls import is_within, split_calls
 from lakesandpumps.changes import change
 from lakesandpumps.kept import House
 from lakesandpumps.refusals import NOT_OPEN, OUT_OF_RANGE
 
 PLACE_OF_OPEN = 0
-PLACE_OF_PLAN = 9
 
 
 def answer_of(house, place, numbers):
@@ -16,8 +15,8 @@ def answer_of(house, place, numbers):
         return [OUT_OF_RANGE]
     if place != PLACE_OF_OPEN and not house.is_open:
         return [NOT_OPEN]
-    if place == PLACE_OF_PLAN:
-        return plan(house)
+    if place >= FIRST_ASK:
+        return ask(house, place, numbers)
     return change(house, place, numbers)
 
 

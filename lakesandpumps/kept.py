@@ -17,6 +17,11 @@ class Store:
     def shorten(self):
         self.inflows = self.inflows[1:]
 
+    def twin(self):
+        other = Store(self.cap, self.beginning, self.end, self.left_value, 0)
+        other.inflows = list(self.inflows)
+        return other
+
 
 class Link:
     """A link, with its room, least and gain for each period that is looked at."""
@@ -38,6 +43,13 @@ class Link:
         self.rooms = self.rooms[1:]
         self.leasts = self.leasts[1:]
         self.gains = self.gains[1:]
+
+    def twin(self):
+        other = Link(self.source, self.goal, self.delay, 0)
+        other.rooms = list(self.rooms)
+        other.leasts = list(self.leasts)
+        other.gains = list(self.gains)
+        return other
 
 
 class House:
@@ -62,3 +74,14 @@ class House:
         self.periods -= 1
         for part in self.stores + self.links:
             part.shorten()
+
+    def twin(self):
+        """A house like this one, to see what would be if something in it were otherwise."""
+        other = House()
+        other.is_open = self.is_open
+        other.periods = self.periods
+        other.stores = [store.twin() for store in self.stores]
+        other.links = [link.twin() for link in self.links]
+        other.gained = self.gained
+        other.elapsed = self.elapsed
+        return other

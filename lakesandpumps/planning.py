@@ -1,6 +1,7 @@
 """Which schedule of a house is the plan."""
 
 from lakesandpumps.network import Network
+from lakesandpumps.schedules import ends_met, levels_fit
 
 # One unit of gain outweighs all weights of the order together: there are at most 36 sendings,
 # and their weights are halved from one to the next.
@@ -43,11 +44,21 @@ def add_levels(network, house):
             network.add_arc(node, node_of(house, number, period + 1), low, store.cap, cost)
 
 
+def has_room(house):
+    """Whether no link's room is below its least; it never is in a house that is kept, but in one that's supposed."""
+    for link in house.links:
+        if any([room < least for room, least in zip(link.rooms, link.leasts)]):
+            return False
+    return True
+
+
 def best_schedule(house):
     """The plan, or None if no schedule is let."""
     if house.periods == 0:
-        is_let = all([store.end <= store.beginning <= store.cap for store in house.stores])
-        return [] if is_let else None
+        beginnings = [store.beginning for store in house.stores]
+        return [] if levels_fit(house, beginnings) and ends_met(house, beginnings) else None
+    if not has_room(house):
+        return None
     network = Network(house.periods * len(house.stores) + 1)
     add_sendings(network, house)
     add_levels(network, house)

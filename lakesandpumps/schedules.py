@@ -1,4 +1,4 @@
-"""What a schedule does in a house: levels and earnings.
+"""What a schedule does in a house: levels, earnings, and whether it is let.
 
 A schedule is a list of amounts: what the links send in period 1, in order, then in period 2, and so on.
 """
@@ -42,3 +42,31 @@ def schedule_earns(house, schedule):
     for store, level in zip(house.stores, last):
         total += store.left_value * level
     return total
+
+
+def sendings_fit(house, schedule, period):
+    """Whether each sending of a period (counted from 0) is from least to room."""
+    many = len(house.links)
+    sent = schedule[period * many:(period + 1) * many]
+    return all([link.leasts[period] <= amount <= link.rooms[period] for link, amount in zip(house.links, sent)])
+
+
+def levels_fit(house, levels):
+    """Whether each store's level is from 0 to its cap."""
+    return all([0 <= level <= store.cap for store, level in zip(house.stores, levels)])
+
+
+def ends_met(house, levels):
+    """Whether no store's level is below its end."""
+    return all([store.end <= level for store, level in zip(house.stores, levels)])
+
+
+def first_not_let(house, schedule):
+    """The first period (counted from 1) for which the schedule isn't let; 0 if there's none."""
+    rows = levels_behind(house, schedule, house.periods)
+    for period in range(house.periods):
+        if not sendings_fit(house, schedule, period) or not levels_fit(house, rows[period + 1]):
+            return period + 1
+    if house.periods > 0 and not ends_met(house, rows[house.periods]):
+        return house.periods
+    return 0

@@ -1,6 +1,8 @@
 """What the tests share: asking a house, and a second reading of the document to hold the answers against."""
 
+import copy
 import itertools
+import unittest
 from collections import deque
 
 from lakesandpumps.house import answers
@@ -10,6 +12,10 @@ GAIN = 10 ** 6
 FARTHEST = 10 ** 18
 
 OPEN, STORE, INFLOW, LINK, ROOM, LEAST, GAIN_OF, ADD, STEP, PLAN = range(10)
+LEVELS, WORTH, MORE, WIDER, WITHOUT, CHECK, LEVELS_BY, ASK_STORE, ASK_LINK, STATE = range(10, 20)
+
+# All that a house shows of itself.
+VIEW = [(STATE,), *[(ASK_STORE, store) for store in range(1, 5)], *[(ASK_LINK, link) for link in range(1, 7)], (PLAN,)]
 
 
 def flat(calls):
@@ -57,6 +63,20 @@ def gains(link, numbers):
     return [(GAIN_OF, link, period, number) for period, number in enumerate(numbers, 1)]
 
 
+class Asking(unittest.TestCase):
+
+    def answers(self, before, call, told):
+        """The call answers this, and all that the house shows is the same before and behind it."""
+        found = ask(*before, *VIEW, call, *VIEW)[len(before):]
+        self.assertEqual(found[len(VIEW)], told, (before, call))
+        self.assertEqual(found[:len(VIEW)], found[len(VIEW) + 1:], (before, call))
+
+    def answer_all(self, before, expected):
+        """As answers, for a dict of calls and what they answer."""
+        for call, told in expected.items():
+            self.answers(before, call, told)
+
+
 class Model:
     """A house by the words of the document; its periods keep the number they had when they came."""
 
@@ -79,16 +99,18 @@ class Model:
             return [-1]
         if place != OPEN and self.first is None:
             return [-2]
-        names = ("open", "store", "inflow", "link", "set_room", "set_least", "set_gain", "add", "step", "plan")
+        names = ("open", "store", "inflow", "link", "set_room", "set_least", "set_gain", "add", "step", "plan", "levels",
+                 "worth", "more", "wider", "without", "check", "levels_by", "ask_store", "ask_link", "state")
         return getattr(self, "do_" + names[place])(*given)
 
     def in_range(self, place, given):
-        amount, gain, period = (0, AMOUNT), (-GAIN, GAIN), (1, 6)
-        if place == STEP:
+        amount, gain, period, change = (0, AMOUNT), (-GAIN, GAIN), (1, 6), (-AMOUNT, AMOUNT)
+        if place in (STEP, CHECK, LEVELS_BY):
             return len(given[0]) <= 36 and all(0 <= number <= AMOUNT for number in given[0])
         told = {OPEN: [period], STORE: [amount, amount, amount, gain], INFLOW: [(1, 4), period, amount],
                 LINK: [(0, 4), (0, 4), (0, 5)], ROOM: [(1, 6), period, amount], LEAST: [(1, 6), period, amount],
-                GAIN_OF: [(1, 6), period, gain], ADD: [], PLAN: []}[place]
+                GAIN_OF: [(1, 6), period, gain], MORE: [(1, 4), period, change], WIDER: [(1, 6), period, change],
+                WITHOUT: [(1, 6)], ASK_STORE: [(1, 4)], ASK_LINK: [(1, 6)]}.get(place, [])
         return all(low <= number <= high for number, (low, high) in zip(given, told, strict=True))
 
     def do_open(self, periods):
@@ -209,8 +231,11 @@ class Model:
             many *= self.room.get(key, 0) - self.least.get(key, 0) + 1
         return many
 
-    def do_plan(self):
-        """A search through all schedules; they come in the order in which the plan is chosen."""
+    def best(self):
+        """What the plan earns and its sendings, or None.
+
+        A search through all schedules; they come in the order in which the plan is chosen.
+        """
         keys = self.keys()
         best = None
         for amounts in itertools.product(*[range(self.least.get(key, 0), self.room.get(key, 0) + 1) for key in keys]):
@@ -218,8 +243,83 @@ class Model:
             if self.is_let(sent):
                 earned = self.earns(sent)
                 if best is None or earned > best[0]:
-                    best = (earned, amounts)
-        return [0, 0] if best is None else [0, 1, best[0], *best[1]]
+                    best = (earned, sent)
+        return best
+
+    def do_plan(self):
+        best = self.best()
+        return [0, 0] if best is None else [0, 1, best[0], *best[1].values()]
+
+    def do_worth(self):
+        best = self.best()
+        return [0, 0] if best is None else [0, 1, best[0]]
+
+    def all_levels(self, sent):
+        return [self.level(store, period, sent) for period in self.periods() for store in range(1, len(self.stores) + 1)]
+
+    def do_levels(self):
+        best = self.best()
+        return [0, 0] if best is None else [0, 1, *self.all_levels(best[1])]
+
+    def supposed(self, name, key, number):
+        other = copy.deepcopy(self)
+        numbers = getattr(other, name)
+        numbers[key] = numbers.get(key, 0) + number
+        return other.do_worth()
+
+    def do_more(self, store, period, number):
+        if store > len(self.stores):
+            return [-5]
+        if self.first + period > self.behind:
+            return [-8]
+        return self.supposed("inflow", (store, self.first + period - 1), number)
+
+    def do_wider(self, link, period, number):
+        if link > len(self.links):
+            return [-6]
+        if self.first + period > self.behind:
+            return [-8]
+        return self.supposed("room", (link, self.first + period - 1), number)
+
+    def do_without(self, link):
+        if link > len(self.links):
+            return [-6]
+        other = copy.deepcopy(self)
+        for period in self.periods():
+            other.room[link, period] = other.least[link, period] = 0
+        return other.do_worth()
+
+    def do_check(self, row):
+        if len(row) != len(self.keys()):
+            return [-7]
+        sent = dict(zip(self.keys(), row))
+        wrong = [key[1] for key, amount in sent.items() if not self.least.get(key, 0) <= amount <= self.room.get(key, 0)]
+        for number, store in enumerate(self.stores, 1):
+            for period in self.periods():
+                low = store["end"] if period == self.behind - 1 else 0
+                if not low <= self.level(number, period, sent) <= store["cap"]:
+                    wrong.append(period)
+        return [0, 0, min(wrong) - self.first + 1] if wrong else [0, 1, self.earns(sent)]
+
+    def do_levels_by(self, row):
+        if len(row) != len(self.keys()):
+            return [-7]
+        return [0, *self.all_levels(dict(zip(self.keys(), row)))]
+
+    def do_ask_store(self, store):
+        if store > len(self.stores):
+            return [-5]
+        return [0, *[self.stores[store - 1][name] for name in ("cap", "beginning", "end", "left")],
+                *[self.inflow.get((store, period), 0) for period in self.periods()]]
+
+    def do_ask_link(self, link):
+        if link > len(self.links):
+            return [-6]
+        return [0, *self.links[link - 1], *[numbers.get((link, period), 0) for numbers in (self.room, self.least, self.gain)
+                                            for period in self.periods()]]
+
+    def do_state(self):
+        return [0, self.behind - self.first, len(self.stores), len(self.links), self.first, self.gained]
 
     def arcs(self, sent):
         """All sendings and levels as (from, to, least, greatest, now, cost).
@@ -309,6 +409,6 @@ def model_of(calls):
     """The house behind these calls; those that only ask are passed over, for a search might not end."""
     model = Model()
     for call in calls:
-        if call[0] != PLAN:
+        if call[0] < PLAN:
             model.call(*call)
     return model

@@ -3,17 +3,25 @@
 import unittest
 
 from lakesandpumps.house import answers
-from tests.helper import ADD, FARTHEST, GAIN_OF, INFLOW, LEAST, LINK, OPEN, PLAN, ROOM, STEP, STORE, ask, flat, last
+from tests.helper import (ADD, ASK_LINK, ASK_STORE, CHECK, FARTHEST, GAIN_OF, INFLOW, LEAST, LEVELS, LEVELS_BY, LINK, MORE,
+                          OPEN, PLAN, ROOM, STATE, STEP, STORE, WIDER, WITHOUT, WORTH, ask, flat, last)
 
 HOUSE = [(OPEN, 2), (STORE, 9, 3, 1, 2), (LINK, 0, 1, 1), (LINK, 1, 0, 0), (ROOM, 1, 1, 4), (ROOM, 2, 2, 5),
          (LEAST, 2, 2, 1), (GAIN_OF, 1, 1, -1), (GAIN_OF, 2, 2, 7), (INFLOW, 1, 2, 2), (ADD,), (PLAN,), (STEP, [4, 0]),
          (PLAN,)]
 
+ASKING = [(LEVELS,), (WORTH,), (MORE, 1, 1, -3), (WIDER, 2, 1, 2), (WITHOUT, 2), (CHECK, [0, 5, 0, 0]),
+          (LEVELS_BY, [0, 5, 0, 0]), (ASK_STORE, 1), (ASK_LINK, 2), (STATE,)]
+
 ONE_OF_EACH = [(STORE, 1, 1, 1, 1), (INFLOW, 1, 1, 1), (LINK, 0, 1, 1), (ROOM, 1, 1, 1), (LEAST, 1, 1, 1),
-               (GAIN_OF, 1, 1, 1), (ADD,), (STEP, []), (STEP, [1]), (PLAN,)]
+               (GAIN_OF, 1, 1, 1), (ADD,), (STEP, []), (STEP, [1]), (PLAN,), (LEVELS,), (WORTH,), (MORE, 1, 1, 1),
+               (WIDER, 1, 1, 1), (WITHOUT, 1), (CHECK, []), (CHECK, [1]), (LEVELS_BY, []), (LEVELS_BY, [1]),
+               (ASK_STORE, 1), (ASK_LINK, 1), (STATE,)]
 
 OUT_OF_RANGE = [(STORE, -1, 0, 0, 0), (INFLOW, 0, 1, 1), (LINK, 0, 5, 1), (ROOM, 7, 1, 1), (LEAST, 1, 7, 1),
-                (GAIN_OF, 1, 0, 1), (STEP, [-1]), (STEP, [0] * 37), (OPEN, 0)]
+                (GAIN_OF, 1, 0, 1), (STEP, [-1]), (STEP, [0] * 37), (OPEN, 0), (MORE, 5, 1, 0), (MORE, 1, 1, 10 ** 9 + 1),
+                (WIDER, 1, 7, 0), (WIDER, 1, 1, -10 ** 9 - 1), (WITHOUT, 0), (CHECK, [0] * 37), (CHECK, [-1]),
+                (LEVELS_BY, [0] * 37), (LEVELS_BY, [10 ** 9 + 1]), (ASK_STORE, 0), (ASK_LINK, 7)]
 
 
 class Unchanging(list):
@@ -39,6 +47,11 @@ class Form(unittest.TestCase):
         self.assertEqual(answers(flat(HOUSE)), [1, 0] + [2, 0, 1] + [2, 0, 1] + [2, 0, 2] + [1, 0] * 7
                          + [9, 0, 1, 39, 4, 0, 0, 5, 0, 0] + [2, 0, -4] + [7, 0, 1, 43, 0, 5, 0, 0])
 
+    def test_asking_the_whole_house(self):
+        self.assertEqual(ask(*HOUSE, *ASKING)[len(HOUSE):], [
+            [0, 1, 4, 4], [0, 1, 43], [0, 1, 35 + 2], [0, 1, 49 + 4], [0, 1, 18], [0, 1, 43], [0, 4, 4],
+            [0, 9, 3, 1, 2, 6, 0], [0, 1, 0, 0, 5, 0, 1, 0, 7, 0], [0, 2, 1, 2, 1, -4]])
+
     def test_a_row_is_read_to_its_end(self):
         self.assertEqual(ask((OPEN, 3), (STEP, list(range(36))), (STEP, []), (STEP, [9, 9, 9]), (PLAN,)),
                          [[0], [-7], [0, 0], [-7], [0, 1, 0]])
@@ -46,14 +59,14 @@ class Form(unittest.TestCase):
                          [[-1], [0], [-1], [0, 0], [0, 1, 0]])
 
     def test_the_list_stays_as_it_was(self):
-        calls = flat(HOUSE + OUT_OF_RANGE + HOUSE)
+        calls = flat(HOUSE + ASKING + OUT_OF_RANGE + HOUSE)
         before = list(calls)
         answers(calls)
         self.assertEqual(calls, before)
         self.assertEqual(answers(Unchanging(calls)), answers(calls))
 
     def test_asking_twice_gives_the_same(self):
-        calls = flat(HOUSE)
+        calls = flat(HOUSE + ASKING)
         first = answers(calls)
         kept = list(first)
         answers(flat([(OPEN, 6), (STORE, 5, 5, 5, 5), (STEP, [])]))
@@ -61,20 +74,21 @@ class Form(unittest.TestCase):
         self.assertEqual(first, kept)
 
     def test_what_was_given_back_may_be_changed(self):
-        calls = flat(HOUSE)
+        calls = flat(HOUSE + ASKING)
         first = answers(calls)
         kept = list(first)
         first.clear()
         self.assertEqual(answers(calls), kept)
 
     def test_whole_numbers_and_lists_alone(self):
-        told = answers(flat(HOUSE + OUT_OF_RANGE))
+        told = answers(flat(HOUSE + ASKING + OUT_OF_RANGE))
         self.assertIs(type(told), list)
         self.assertEqual({type(number) for number in told}, {int})
 
     def test_two_hundred_calls(self):
         self.assertEqual(ask((OPEN, 6), *[(PLAN,)] * 199), [[0]] + [[0, 1, 0]] * 199)
-        self.assertEqual(ask(*[(STEP, [10 ** 9] * 72)] * 200), [[-1]] * 200)
+        for place in (STEP, CHECK, LEVELS_BY):
+            self.assertEqual(ask(*[(place, [10 ** 9] * 72)] * 200), [[-1]] * 200)
 
 
 class EveryCall(unittest.TestCase):
@@ -105,6 +119,11 @@ class EveryCall(unittest.TestCase):
             ROOM: [(1, 6), (1, 6), (0, 10 ** 9)],
             LEAST: [(1, 6), (1, 6), (0, 10 ** 9)],
             GAIN_OF: [(1, 6), (1, 6), (-10 ** 6, 10 ** 6)],
+            MORE: [(1, 4), (1, 6), (-10 ** 9, 10 ** 9)],
+            WIDER: [(1, 6), (1, 6), (-10 ** 9, 10 ** 9)],
+            WITHOUT: [(1, 6)],
+            ASK_STORE: [(1, 4)],
+            ASK_LINK: [(1, 6)],
         }
         before = {OPEN: []}
         for place, bounds in ends.items():

@@ -3,8 +3,8 @@
 import random
 import unittest
 
-from tests.helper import (ADD, AMOUNT, FARTHEST, GAIN_OF, INFLOW, LEAST, LINK, OPEN, PLAN, ROOM, STEP, STORE, Model,
-                          ask, last)
+from tests.helper import (ADD, AMOUNT, ASK_LINK, ASK_STORE, CHECK, FARTHEST, GAIN_OF, INFLOW, LEAST, LEVELS, LEVELS_BY,
+                          LINK, MORE, OPEN, PLAN, ROOM, STATE, STEP, STORE, WIDER, WITHOUT, WORTH, Model, ask, last)
 
 FAR = (-FARTHEST, -AMOUNT - 1, -1, 7, AMOUNT + 1, FARTHEST)
 
@@ -73,29 +73,83 @@ class PlansAgainstSearch(unittest.TestCase):
             self.assertEqual(told[-1], scaled(model.do_plan(), unit, gain_unit), calls)
 
 
+class SupposingAgainstSearch(unittest.TestCase):
+    """levels, worth, more, wider and without of small houses."""
+
+    def test_small_houses(self):
+        rng = random.Random(8)
+        found = {}
+        for turn in range(300):
+            calls = small_house(rng)
+            model = Model()
+            for call in calls:
+                model.call(*call)
+            asked = [(LEVELS,), (WORTH,), *[(WITHOUT, link) for link in range(1, len(model.links) + 1)]]
+            for many in range(3):
+                period = rng.randint(1, model.behind)
+                asked.append((MORE, rng.randint(1, len(model.stores)), period, rng.randint(-4, 4)))
+                asked.append((WIDER, rng.randint(1, len(model.links)), period, rng.randint(-3, 4)))
+            told = ask(*calls, *asked)[len(calls):]
+            self.assertEqual(told, [model.call(*call) for call in asked], (calls, asked))
+            for call, answer in zip(asked, told):
+                key = (call[0], told[1][1], answer[1])
+                found[key] = found.get(key, 0) + 1
+        for place in (MORE, WIDER, WITHOUT):
+            for key in ((place, 0, 0), (place, 0, 1), (place, 1, 0), (place, 1, 1)):
+                self.assertGreater(found.get(key, 0), 5, key)
+
+
+class SchedulesAgainstModel(unittest.TestCase):
+    """check and levelsBy of any schedule, let or not."""
+
+    def test_small_houses(self):
+        rng = random.Random(9)
+        found = {}
+        for turn in range(600):
+            calls = small_house(rng)
+            model = Model()
+            for call in calls:
+                model.call(*call)
+            rows = [[rng.randint(model.least.get(key, 0), model.room.get(key, 0)) for key in model.keys()] for row in range(4)]
+            rows += [[rng.randint(0, 4) for key in model.keys()] for row in range(2)]
+            asked = [(place, row) for row in rows for place in (CHECK, LEVELS_BY)]
+            told = ask(*calls, *asked)[len(calls):]
+            self.assertEqual(told, [model.call(*call) for call in asked], (calls, asked))
+            for call, answer in zip(asked, told):
+                if call[0] == CHECK:
+                    key = (answer[1], answer[2] if answer[1] == 0 else 0)
+                    found[key] = found.get(key, 0) + 1
+        for key in ((0, 1), (0, 2), (0, 3), (1, 0)):
+            self.assertGreater(found.get(key, 0), 50, key)
+
+
+ANY_PLACE = (OPEN, STORE, INFLOW, INFLOW, LINK, LINK, ROOM, ROOM, ROOM, LEAST, LEAST, GAIN_OF, GAIN_OF, ADD, ADD, STEP, STEP,
+             PLAN, PLAN, LEVELS, WORTH, MORE, WIDER, WITHOUT, CHECK, CHECK, LEVELS_BY, ASK_STORE, ASK_LINK, STATE)
+
+
 def any_call(rng, model):
     """A call of any kind, mostly one that is accepted."""
-    place = rng.choice((OPEN, STORE, INFLOW, INFLOW, LINK, LINK, ROOM, ROOM, ROOM, LEAST, LEAST, GAIN_OF, GAIN_OF, ADD,
-                        ADD, STEP, STEP, PLAN, PLAN))
+    place = rng.choice(ANY_PLACE)
     stores, links = max(1, len(model.stores)), max(1, len(model.links))
     looked_at = 3 if model.first is None else max(1, model.behind - model.first)
 
     def number(low, high):
         return rng.choice(FAR) if rng.random() < 0.01 else rng.randint(low, high)
 
-    def sent():
-        return [rng.randint(model.least.get((link, model.first), 0), model.room.get((link, model.first), 0))
-                if model.first is not None else 0 for link in range(1, len(model.links) + 1)]
+    def sent(keys):
+        return [rng.randint(model.least.get(key, 0), model.room.get(key, 0)) for key in keys]
 
-    if place == STEP:
-        row = sent()
+    if place in (STEP, CHECK, LEVELS_BY):
+        keys = [] if model.first is None else model.keys()
+        row = sent(keys if place != STEP else [(link, model.first) for link in range(1, len(model.links) + 1)])
         if rng.random() < 0.1:
             row.append(rng.choice((0, 1, -1, AMOUNT + 1)))
         if row and rng.random() < 0.1:
             row[rng.randrange(len(row))] = rng.choice((0, 1, 2, 3, -1, FARTHEST))
-        return STEP, row
+        return place, row
     period = number(1, min(6, looked_at + (rng.random() < 0.1)))
     link = number(1, min(6, links + (rng.random() < 0.1)))
+    store = number(1, min(4, stores + (rng.random() < 0.1)))
     return {
         OPEN: (OPEN, number(1, 3)),
         STORE: (STORE, number(1, 5), number(0, 2), max(0, number(-6, 3)), number(-2, 2)),
@@ -104,9 +158,12 @@ def any_call(rng, model):
         ROOM: (ROOM, link, period, number(0, 3)),
         LEAST: (LEAST, link, period, number(0, 2)),
         GAIN_OF: (GAIN_OF, link, period, number(-2, 2)),
-        ADD: (ADD,),
-        PLAN: (PLAN,),
-    }[place]
+        MORE: (MORE, store, period, number(-3, 3)),
+        WIDER: (WIDER, link, period, number(-2, 2)),
+        WITHOUT: (WITHOUT, link),
+        ASK_STORE: (ASK_STORE, store),
+        ASK_LINK: (ASK_LINK, link),
+    }.get(place, (place,))
 
 
 class CallsAgainstModel(unittest.TestCase):
@@ -119,7 +176,7 @@ class CallsAgainstModel(unittest.TestCase):
             calls, asked_for = [], []
             for many in range(120):
                 call = (OPEN, rng.randint(1, 6)) if many == 5 else any_call(rng, model)
-                if call[0] == PLAN and model.first is not None and model.choices() > 400:
+                if PLAN <= call[0] <= WITHOUT and model.first is not None and model.choices() > 400:
                     continue
                 calls.append(call)
                 asked_for.append(model.call(*call))
@@ -128,7 +185,12 @@ class CallsAgainstModel(unittest.TestCase):
             self.assertEqual(ask(*calls), asked_for, calls)
         for key in ((OPEN, -1), (OPEN, -3), (STORE, -7), (STORE, -4), (INFLOW, -5), (INFLOW, -8), (LINK, -7),
                     (LINK, -4), (ROOM, -6), (ROOM, -8), (ROOM, -7), (LEAST, -7), (GAIN_OF, -8), (STEP, -1),
-                    (STEP, -2), (STEP, -7), (STEP, -8), (STEP, 0), (PLAN, -2), (PLAN, 0)):
+                    (STEP, -2), (STEP, -7), (STEP, -8), (STEP, 0), (PLAN, -2), (PLAN, 0), (LEVELS, -2), (LEVELS, 0),
+                    (WORTH, -2), (WORTH, 0), (MORE, -1), (MORE, -2), (MORE, -5), (MORE, -8), (MORE, 0), (WIDER, -1),
+                    (WIDER, -2), (WIDER, -6), (WIDER, -8), (WIDER, 0), (WITHOUT, -1), (WITHOUT, -2), (WITHOUT, -6),
+                    (WITHOUT, 0), (CHECK, -1), (CHECK, -2), (CHECK, -7), (CHECK, 0), (LEVELS_BY, -1), (LEVELS_BY, -2),
+                    (LEVELS_BY, -7), (LEVELS_BY, 0), (ASK_STORE, -1), (ASK_STORE, -2), (ASK_STORE, -5), (ASK_STORE, 0),
+                    (ASK_LINK, -1), (ASK_LINK, -2), (ASK_LINK, -6), (ASK_LINK, 0), (STATE, -2), (STATE, 0)):
             self.assertGreater(seen.get(key, 0), 5, key)
 
 
